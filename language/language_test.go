@@ -158,6 +158,12 @@ func useFaults(n ast.Node, tell func(ast.Node, string)) {
 		if f, ok := n.Fun.(*ast.Ident); ok && (f.Name == "print" || f.Name == "println") {
 			tell(n, "prints")
 		}
+	case *ast.MapType:
+		// One that is made and asked in one call may not be so, and a text doesn't
+		// show in which calls a map is made and asked.
+		if v, ok := n.Value.(*ast.Ident); ok && (v.Name == "bool" || v.Name == "string") {
+			tell(n, "a map whose values are "+v.Name+"s")
+		}
 	}
 }
 
@@ -203,6 +209,8 @@ func TestFaultsAreFound(t *testing.T) {
 		"var f = func() {}\n",
 		"var n = len(\"abc\")\n",
 		"func f() { println() }\n",
+		"func f(m map[int]bool) {}\n",
+		"type t struct{ m map[int]string }\n",
 		"func  f() {}\n",
 		"func f() {\n" + strings.Repeat("\tf()\n", mostLines-1) + "}\n",
 	} {
